@@ -1,0 +1,1 @@
+"""Coins made once and spent once, on branches of which the heaviest counts."""
