@@ -40,18 +40,69 @@ copyright credits delattr dir eval exec exit gc getattr globals hasattr help id 
 methodcaller os quit setattr super vars sys format format_map
 """.split()
 
+# What is walked where it stands, and what may take it.
+WALKED = "zip enumerate reversed range items keys values".split()
+WALKERS = "list tuple dict sorted sum any all enumerate zip min max join".split()
+
+KEYWORDS = {
+    "sorted": ("key", "reverse"), "min": ("key", "default"), "max": ("key", "default"),
+    "sum": ("start",), "enumerate": ("start",), "zip": ("strict",),
+}
+
+# Values of objects that may be called like a method of Python's own values.
+VALUES = "count index title find get join lower upper split strip copy add".split()
+PYTHONS_OWN = [name for kind in (str, int, list, dict, set, frozenset, bytes, tuple) for name in dir(kind)]
+
 
 def parsed(file):
     return ast.parse(file.read_text(encoding="utf-8"))
 
 
+def methods_of(node):
+    return [part.name for part in node.body if isinstance(part, ast.FunctionDef)]
+
+
 def own_methods():
     found = ["__init__"]
-    for file in FILES:
-        for node in ast.walk(parsed(file)):
-            if isinstance(node, ast.ClassDef):
-                found += [part.name for part in node.body if isinstance(part, ast.FunctionDef)]
+    for where, node in each_node():
+        if isinstance(node, ast.ClassDef):
+            found += methods_of(node)
     return found
+
+
+def own_values():
+    """Every name that is given a value behind a dot."""
+    found = []
+    for where, node in each_node():
+        if isinstance(node, ast.Attribute) and isinstance(node.ctx, ast.Store):
+            found.append(node.attr)
+    return found
+
+
+def top_names(tree):
+    """What is bound at a file's top."""
+    found = []
+    for node in tree.body:
+        if isinstance(node, (ast.FunctionDef, ast.ClassDef)):
+            found.append(node.name)
+        elif isinstance(node, ast.ImportFrom):
+            found += [part.asname or part.name for part in node.names]
+        elif isinstance(node, ast.Assign):
+            found += [target.id for target in node.targets]
+    return found
+
+
+def called(node):
+    """The name by which a call calls, without what stands ahead of its dot."""
+    if not isinstance(node, ast.Call):
+        return None
+    return node.func.attr if isinstance(node.func, ast.Attribute) else getattr(node.func, "id", None)
+
+
+def each_with_parent():
+    for where, parent in each_node():
+        for node in ast.iter_child_nodes(parent):
+            yield f"{where}: {ast.unparse(node)}", node, parent
 
 
 def bound_names(tree):
@@ -152,7 +203,7 @@ class FormTest(unittest.TestCase):
             bound = list(bound_names(tree))
             for name in bound:
                 with self.subTest(file=file.name, name=name):
-                    self.assertFalse(hasattr(builtins, name))
+                    self.assertNotIn(name, vars(builtins))
                     self.assertRegex(name, r"^([A-Za-z][A-Za-z0-9_]*|__init__|__eq__|__repr__|__str__|__len__)$")
                     self.assertNotIn(name, NAMES_NOT_USED)
             for node in ast.walk(tree):
@@ -170,6 +221,73 @@ class FormTest(unittest.TestCase):
                 if isinstance(node, ast.Attribute):
                     with self.subTest(file=file.name, line=node.lineno):
                         self.assertNotIn(node.attr, NAMES_NOT_USED)
+
+    def test_each_name_once(self):
+        for file in FILES:
+            tree = parsed(file)
+            tops = top_names(tree)
+            self.assertEqual(len(set(tops)), len(tops), file.name)
+            drawn = [node for node in tree.body if isinstance(node, (ast.ImportFrom, ast.ClassDef))]
+            taken = top_names(ast.Module(drawn, []))
+            for part in ast.walk(tree):
+                if isinstance(part, (ast.FunctionDef, ast.Lambda)):
+                    for name in bound_names(ast.Module(part.body, []) if isinstance(part.body, list) else part):
+                        self.assertNotIn(name, taken, f"{file.name}:{part.lineno}")
+                    for parameter in part.args.args:
+                        self.assertNotIn(parameter.arg, taken, f"{file.name}:{part.lineno}")
+            for node in ast.walk(tree):
+                if isinstance(node, ast.ClassDef):
+                    self.assertIn(node, tree.body, file.name)
+                    self.assertEqual(len(set(methods_of(node))), len(methods_of(node)), node.name)
+
+    def test_own_values(self):
+        methods = own_methods()
+        for name in own_values():
+            with self.subTest(name):
+                self.assertNotIn(name, methods)
+                self.assertTrue(name in VALUES or name not in PYTHONS_OWN)
+        for name in methods:
+            with self.subTest(name):
+                self.assertTrue(name in METHODS + ["add", "discard", "__init__"] or name not in PYTHONS_OWN)
+
+    def test_methods_with_two_underscores(self):
+        for where, node in each_node():
+            if isinstance(node, ast.FunctionDef) and node.name.startswith("__"):
+                self.assertEqual(node.name, "__init__", where)
+                for part in ast.walk(node):
+                    self.assertFalse(isinstance(part, ast.Return) and part.value is not None, where)
+
+    def test_annotations(self):
+        for where, node in each_node():
+            if isinstance(node, ast.FunctionDef):
+                self.assertIsNone(node.returns, where)
+            if isinstance(node, ast.arg):
+                self.assertIsNone(node.annotation, where)
+
+    def test_keywords(self):
+        for where, node in each_node():
+            if isinstance(node, ast.Call) and (called(node) in BUILTINS or called(node) in METHODS):
+                for part in node.keywords:
+                    self.assertIn(part.arg, KEYWORDS.get(called(node), ()), where)
+
+    def test_walked_at_once(self):
+        for where, node, parent in each_with_parent():
+            if called(node) in WALKED:
+                walks = isinstance(parent, (ast.For, ast.comprehension)) and parent.iter == node
+                self.assertTrue(walks or (called(parent) in WALKERS and node in parent.args), where)
+
+    def test_sets(self):
+        for where, node, parent in each_with_parent():
+            if isinstance(node, (ast.Set, ast.SetComp)) or called(node) in ("set", "frozenset"):
+                self.assertTrue(isinstance(parent, ast.Compare) or called(parent) in ("sorted", "len"), where)
+
+    def test_python_writes_no_number_in_an_error(self):
+        # It refuses to write very long ones, and then another error would come out.
+        for where, node in each_node():
+            if isinstance(node, ast.Raise):
+                for part in ast.walk(node):
+                    if isinstance(part, ast.FormattedValue):
+                        self.assertIn(ast.unparse(part.value), ("word", "fault"), where)
 
     def test_no_two_files_draw_from_one_another(self):
         drawn = {}
