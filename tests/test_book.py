@@ -1,14 +1,13 @@
 import itertools
-import random
 import unittest
 
+from chances import RULES as CHANCE_RULES
+from chances import BookChance
 from making import FIVE, OPEN, block, deed, lone, maker, outcome
-from spentonce.blocks import gift
 from spentonce.book import Book
-from spentonce.deeds import worth_of
 from spentonce.errors import BadBlock, CoinError, Known, NoAhead, NoBlock, NoRules, NoSuch, Other
-from spentonce.trying import opens
 from strange import NO_TUPLES
+from telling import ToldBook, node_of
 
 BIG = 10 ** 30
 RULES = (50, 10, 0)
@@ -455,158 +454,32 @@ class OrderTest(BookCase):
             self.assertEqual(book.head(), 2)
 
 
-class Replayed:
-    """A branch done from the first block on, by the words of the document."""
-
-    def __init__(self, blocks, rules):
-        self.coins, self.spenders, self.done, self.made, self.fees, self.gifts = {}, {}, [], 0, 0, 0
-        self.fault = None
-        for height, thing in enumerate(blocks, start=1):
-            fees = self.fees
-            for place, each in enumerate(thing[3]):
-                word = self.word(each, height)
-                if word:
-                    self.fault = (place, word)
-                    return
-                self.do(each, height, rules[2] if place == 0 else 0)
-            self.gifts += gift(rules, height)
-            self.made += worth_of(thing[3][0])
-            if worth_of(thing[3][0]) > gift(rules, height) + self.fees - fees:
-                self.fault = (0, "much")
-                return
-
-    def word(self, each, height):
-        number, ins, outs = each
-        if number in self.done:
-            return "known"
-        if len({coin for coin, keys in ins}) < len(ins):
-            return "twice"
-        for coin, keys in ins:
-            if coin not in self.coins or coin in self.spenders:
-                return "gone"
-            worth, lock, made, free = self.coins[coin]
-            if height < free:
-                return "green"
-            paid = tuple([out[0] for out in outs])
-            if not opens(lock, keys, (height, height - made, worth, len(ins), len(outs), paid)):
-                return "shut"
-        return "less" if ins and self.fee(each) < 0 else None
-
-    def fee(self, each):
-        return sum([self.coins[coin][0] for coin, keys in each[1]]) - worth_of(each) if each[1] else 0
-
-    def do(self, each, height, ripe):
-        self.fees += self.fee(each)
-        self.done.append(each[0])
-        for coin, keys in each[1]:
-            self.spenders[coin] = each[0]
-        for place, (worth, lock) in enumerate(each[2]):
-            self.coins[(each[0], place)] = (worth, lock, height, height + ripe)
-
-    def unspent(self):
-        return {coin: kept for coin, kept in self.coins.items() if coin not in self.spenders}
-
-
 class ChanceTest(unittest.TestCase):
-    """Blocks by chance, the same ones each time, beside branches that are done anew for each question."""
-
-    LOCKS = (OPEN, OPEN, OPEN, FIVE, (("age",), ("push", 1), ("less",), ("not",)), (("height",), ("push", 2), ("sub",)))
-    RULES = ((20, 2, 0), (20, 3, 1), (9, 1, 0))
-
-    def setUp(self):
-        self.chance = random.Random(4)
-        self.outcomes = {}
-
-    def outs(self, most):
-        chance = self.chance
-        return [(chance.randint(1, most), chance.choice(self.LOCKS)) for turn in range(chance.randint(1, 2))]
-
-    def some_deed(self, coins, deeds):
-        chance = self.chance
-        if deeds and chance.randrange(4) == 0:
-            return chance.choice(deeds)
-        ins = [(chance.choice(coins), chance.choice(((), (5,)))) for turn in range(chance.choice((1, 1, 1, 2)))]
-        return (chance.randint(1, 200), tuple(ins), tuple(self.outs(9)))
-
-    def some_block(self, book, blocks, rules):
-        chance = self.chance
-        ahead = chance.choice(list(blocks) + [0, 50])
-        coins = list(book.coins(ahead)) if ahead != 50 else []
-        known = [each for thing in blocks.values() for each in thing[3]]
-        first = maker(chance.randint(201, 400), *self.outs(12))
-        makers = [each for each in known if not each[1]]
-        if makers and chance.randrange(6) == 0:
-            first = chance.choice(makers)
-        coins += [(first[0], 0)] + [coin for each in known for coin, keys in each[1]][-2:]
-        others = [each for each in known if each[1]]
-        deeds = [self.some_deed(coins, others) for turn in range(chance.choice((0, 0, 1, 1, 2)))]
-        return block(chance.randint(1, 30), ahead, chance.randint(1, 3), first, *deeds)
-
-    def told_outcome(self, blocks, thing, rules):
-        """The refusal, or the fault, or None, from the blocks that are there."""
-        if thing[0] in blocks or thing[0] == 0:
-            return Known
-        if thing[1] != 0 and thing[1] not in blocks:
-            return NoAhead
-        known = [each for other in blocks.values() for each in other[3]]
-        for place, each in enumerate(thing[3]):
-            for other in known + list(thing[3][:place]):
-                if other[0] == each[0] and other != each:
-                    return Other
-        return Replayed(self.branch(blocks, thing[1]) + [thing], rules).fault
-
-    def branch(self, blocks, number):
-        return self.branch(blocks, blocks[number][1]) + [blocks[number]] if number else []
+    """Blocks by chance beside a telling in which each branch is done anew for each question."""
 
     def test_blocks_by_chance(self):
+        chance, outcomes = BookChance(4), {}
         for turn in range(60):
-            rules = self.RULES[turn % 3]
-            book, blocks = Book(rules), {}
+            rules = CHANCE_RULES[turn % 3]
+            book, told = Book(rules), ToldBook(rules)
             for step in range(40):
-                thing = self.some_block(book, blocks, rules)
-                told = self.told_outcome(blocks, thing, rules)
-                self.outcomes[told] = self.outcomes.get(told, 0) + 1
-                self.assertEqual(outcome(book.judge, thing), told)
-                last = book.head()
-                if told is None:
-                    blocks[thing[0]] = thing
-                    self.assertEqual(book.put(thing), book.way(last, self.head(blocks)))
-                else:
-                    self.assertIs(outcome(book.put, thing), BadBlock if isinstance(told, tuple) else told)
-                self.assertEqual(book.head(), self.head(blocks))
-            self.compare(book, blocks, rules)
-            self.compare(self.in_another_order(blocks, rules), blocks, rules)
-        for told in (None, Known, NoAhead, Other, (0, "much"), (0, "known"), (1, "known"), (1, "gone"), (1, "green"),
-                     (1, "shut"), (1, "less"), (1, "twice"), (2, "gone")):
-            self.assertGreater(self.outcomes.get(told, 0), 5, told)
+                thing = chance.block(told)
+                judged = told.judged(thing)
+                outcomes[judged] = outcomes.get(judged, 0) + 1
+                self.assertEqual(outcome(book.judge, thing), judged)
+                self.assertEqual(outcome(book.put, thing), told.put(thing))
+                self.assertEqual(book.head(), told.head())
+            self.compare(book, told)
+            self.compare(filled(chance.in_another_order(told.blocks.values()), rules), told)
+        for judged in (None, Known, NoAhead, Other, (0, "much"), (0, "known"), (1, "known"), (1, "gone"), (1, "green"),
+                       (1, "shut"), (1, "less"), (1, "twice"), (2, "gone")):
+            self.assertGreater(outcomes.get(judged, 0), 5, judged)
 
-    def weight(self, blocks, number):
-        return sum([thing[2] for thing in self.branch(blocks, number)])
-
-    def head(self, blocks):
-        return min([0] + list(blocks), key=lambda number: (-self.weight(blocks, number), number))
-
-    def in_another_order(self, blocks, rules):
-        book, waiting, there = Book(rules), list(blocks.values()), [0]
-        while waiting:
-            thing = self.chance.choice([thing for thing in waiting if thing[1] in there])
-            waiting.remove(thing)
-            there.append(thing[0])
-            book.put(thing)
-        return book
-
-    def compare(self, book, blocks, rules):
-        self.assertEqual(book.head(), self.head(blocks))
-        for number in [0] + list(blocks):
-            branch = self.branch(blocks, number)
-            told = Replayed(branch, rules)
-            self.assertEqual(book.branch(number), [thing[0] for thing in branch])
-            self.assertEqual((book.height(number), book.weight(number)), (len(branch), self.weight(blocks, number)))
-            self.assertEqual(book.coins(number), told.unspent())
-            self.assertEqual(book.total(number), told.made - told.fees)
-            self.assertLessEqual(book.total(number), told.gifts)
-            for coin in told.coins:
-                self.assertEqual(book.spender(coin, number), told.spenders.get(coin))
+    def compare(self, book, told):
+        self.assertEqual(book.head(), told.head())
+        for number in told.nodes():
+            self.assertEqual(node_of(book, number, told.coins()), told.node(number))
+            self.assertLessEqual(book.total(number), told.at(number).gifts)
 
 
 if __name__ == "__main__":

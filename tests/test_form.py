@@ -289,6 +289,23 @@ class FormTest(unittest.TestCase):
                     if isinstance(part, ast.FormattedValue):
                         self.assertIn(ast.unparse(part.value), ("word", "fault"), where)
 
+    def test_errors_that_are_taken(self):
+        own = [node.name for where, node in each_node() if isinstance(node, ast.ClassDef)]
+        for where, node in each_node():
+            if isinstance(node, ast.ExceptHandler):
+                self.assertIn(ast.unparse(node.type), own + ["KeyError", "ZeroDivisionError", "StopIteration"], where)
+            if isinstance(node, ast.Raise):
+                self.assertIsInstance(node.exc, ast.Call, where)
+                self.assertIn(called(node.exc), own, where)
+
+    def test_lists_and_dicts_at_a_file_s_top(self):
+        for file in FILES:
+            for node in parsed(file).body:
+                if isinstance(node, ast.Assign):
+                    inner = [part for part in ast.walk(node.value) if part != node.value]
+                    for part in inner:
+                        self.assertNotIsInstance(part, (ast.List, ast.Dict, ast.Call), file.name)
+
     def test_no_two_files_draw_from_one_another(self):
         drawn = {}
         for file in FILES:

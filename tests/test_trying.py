@@ -1,10 +1,10 @@
-import random
 import unittest
 
+from chances import LockChance
 from spentonce.trying import opens
+from telling import FACT_WORDS, told_opens
 
 FACTS = (11, 22, 33, 44, 55, (66, 77, 88))
-FACT_WORDS = ("height", "age", "worth", "ins", "outs")
 MOST = 10 ** 60 - 1
 SHUTTING = (("push", 0), ("need",))
 # Rows that open whatever lies, as long as one more may lie.
@@ -464,138 +464,13 @@ class AskedAgainTest(TryingCase):
         self.assertEqual(facts, (1, 2, 3, 4, 5, (6, 7)))
 
 
-class Shut(Exception):
-    pass
-
-
-class Told:
-    """The words of the document once more, in another way: a lock is split at its ifs, and each part done as a whole."""
-
-    def __init__(self, keys, facts):
-        self.facts = dict(zip(FACT_WORDS, facts))
-        self.paid = dict(enumerate(facts[5]))
-        self.pile = ()
-        for key in keys:
-            self.lay(key)
-
-    def lay(self, number):
-        self.pile = (number,) + self.pile
-        if len(str(abs(number))) > 60 or len(self.pile) > 20:
-            raise Shut
-
-    def take(self):
-        if not self.pile:
-            raise Shut
-        top, self.pile = self.pile[0], self.pile[1:]
-        return top
-
-    def do_all(self, lock):
-        while lock:
-            if lock[0][0] != "if":
-                self.do(*lock[0])
-                lock = lock[1:]
-                continue
-            first, second, lock = split(lock)
-            self.do_all(first if self.take() != 0 else second)
-
-    def do(self, word, number=None):
-        if word == "push":
-            self.lay(number)
-        elif word == "copy":
-            if len(self.pile) < number + 1:
-                raise Shut
-            self.lay(self.pile[number])
-        elif word == "paid":
-            self.lay(self.paid.get(number, 0))
-        elif word in self.facts:
-            self.lay(self.facts[word])
-        elif word == "not":
-            self.lay(int(not self.take()))
-        elif word == "need":
-            if self.take() == 0:
-                raise Shut
-        elif word == "drop":
-            self.take()
-        else:
-            b, a = self.take(), self.take()
-            laid = {"swap": (b, a), "add": (a + b,), "sub": (a - b,), "mul": (a * b,),
-                    "less": (int(a < b),), "same": (int(a == b),)}
-            for number in laid[word]:
-                self.lay(number)
-
-
-def split(lock):
-    """The two parts of the if that the lock begins with, and what is behind its end."""
-    depth, middle = 0, None
-    for place, (word, *more) in enumerate(lock):
-        depth += (word == "if") - (word == "end")
-        if depth == 1 and word == "else":
-            middle = place
-        if depth == 0:
-            if middle is None:
-                return lock[1:place], (), lock[place + 1:]
-            return lock[1:middle], lock[middle + 1:place], lock[place + 1:]
-
-
-def told(lock, keys, facts):
-    try:
-        trial = Told(keys, facts)
-        trial.do_all(lock)
-        return trial.take() != 0
-    except Shut:
-        return False
-
-
-class Chance:
-    """Locks, keys and facts by chance, the same ones each time."""
-
-    WORDS = ("drop", "swap", "add", "sub", "mul", "less", "same", "not", "need") + FACT_WORDS
-    NUMBERS = (0, 0, 1, 1, 2, -1, 3, 10 ** 29, -10 ** 30, 10 ** 49, 10 ** 50 - 1)
-
-    def __init__(self, seed):
-        self.chance = random.Random(seed)
-
-    def row(self):
-        kind = self.chance.randrange(10)
-        if kind < 4:
-            return ("push", self.chance.choice(self.NUMBERS))
-        if kind < 5:
-            return ("copy", self.chance.randrange(4))
-        if kind < 6:
-            return ("paid", self.chance.randrange(4))
-        return (self.chance.choice(self.WORDS),)
-
-    def lock(self, count, depth):
-        found = ()
-        while len(found) < count:
-            if depth and self.chance.randrange(4) == 0:
-                found += self.branch(depth - 1)
-            else:
-                found += (self.row(),)
-        return found
-
-    def branch(self, depth):
-        found = rows("if") + self.lock(self.chance.randrange(4), depth)
-        if self.chance.randrange(2):
-            found += rows("else") + self.lock(self.chance.randrange(4), depth)
-        return found + rows("end")
-
-    def keys(self):
-        return tuple([self.chance.choice(self.NUMBERS) for turn in range(self.chance.randrange(11))])
-
-    def facts(self):
-        numbers = [abs(self.chance.choice(self.NUMBERS)) for turn in range(5)]
-        paid = [abs(self.chance.choice(self.NUMBERS)) for turn in range(self.chance.randrange(5))]
-        return tuple(numbers) + (tuple(paid),)
-
-
 class ChanceTest(unittest.TestCase):
     def test_locks_by_chance(self):
-        chance = Chance(1)
+        chance = LockChance(1)
         counts = {True: 0, False: 0}
         for turn in range(4000):
-            lock, keys, facts = chance.lock(chance.chance.randrange(20), 4), chance.keys(), chance.facts()
-            outcome = told(lock, keys, facts)
+            lock, keys, facts = chance.lock(chance.random.randrange(20), 4), chance.keys(), chance.facts()
+            outcome = told_opens(lock, keys, facts)
             counts[outcome] += 1
             if opens(lock, keys, facts) is not outcome:
                 self.fail(f"opens({lock}, {keys}, {facts}) is not {outcome}")
